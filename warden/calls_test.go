@@ -1,0 +1,74 @@
+package warden_test
+
+import (
+	"math"
+	"slices"
+	"strings"
+	"testing"
+
+	"warden/api"
+	"warden/warden"
+)
+
+// rich has each thing that a source can have.
+const rich = "A{+a(r0|w3)-a}t{<A>z[B]}B{([A]|)}h{+f-fB}"
+
+// oddTexts are texts right and wrong: each start of a source, and the source with each byte changed to each other, taken out and doubled.
+func oddTexts() []string {
+	texts := []string{"\x00", "\xff\xfe", "é{}", strings.Repeat("t{", 120), strings.Repeat("(", 240), strings.Repeat("t", 1000000), tower(""), tower("z"), tower("A"), strings.Repeat("A", 240), "A{" + strings.Repeat("A", 237) + "}"}
+	for i := range len(rich) {
+		texts = append(texts, rich[:i], rich[:i]+rich[i+1:], rich[:i+1]+rich[i:])
+		for c := range 256 {
+			texts = append(texts, rich[:i]+string([]byte{byte(c)})+rich[i+1:])
+		}
+	}
+	return append(texts, rich)
+}
+
+func TestUnfoldAnswersWithCheck(t *testing.T) {
+	for _, src := range oddTexts() {
+		e, at := warden.Check(src)
+		if at < 0 || at > len(src) || (e == api.OK || e == api.ErrLong || e == api.ErrRound) && at != 0 {
+			t.Errorf("P1: Check(%.80q) = %d, %d", src, e, at)
+		}
+		items, e2 := warden.Unfold(src)
+		if e2 != e || e != api.OK && items != nil {
+			t.Errorf("P1: Unfold(%.80q) = %v, %d; Check says %d", src, items, e2, e)
+		}
+		for _, item := range items {
+			if len(item.Body) > api.MaxBody || strings.ContainsAny(item.Body, "ABCDEFGH{}") {
+				t.Errorf("P4: Unfold(%.80q) has the body %q", src, item.Body)
+			}
+		}
+	}
+}
+
+func TestEveryCallEnds(t *testing.T) {
+	for _, src := range oddTexts() {
+		for _, n := range []int{math.MinInt, -1, 0, 1, 3, 4, math.MaxInt} {
+			warden.Run(src, n, src)
+			warden.Show(src, api.Report{Kind: n, Item: n, Place: n})
+		}
+		warden.Analyse(src)
+		warden.Edges(src)
+	}
+}
+
+func TestAnswersDependOnArgumentsAlone(t *testing.T) {
+	want, e := warden.Unfold(rich)
+	if e != api.OK || len(want) != 2 {
+		t.Fatalf("Unfold(%q) = %v, %d", rich, want, e)
+	}
+	kept := slices.Clone(want)
+	for _, src := range append(oddTexts(), rich) {
+		warden.Check(src)
+		warden.Unfold(src)
+		got, e := warden.Unfold(rich)
+		if e != api.OK || !slices.Equal(got, kept) || !slices.Equal(want, kept) {
+			t.Fatalf("P2: after %.80q Unfold(%q) = %v, %d, want %v", src, rich, got, e, kept)
+		}
+		for i := range got {
+			got[i] = api.Item{Handler: true, Body: "changed"}
+		}
+	}
+}

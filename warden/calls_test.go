@@ -43,10 +43,28 @@ func TestUnfoldAnswersWithCheck(t *testing.T) {
 	}
 }
 
+func TestRunAnswersWithCheck(t *testing.T) {
+	for _, src := range oddTexts() {
+		e, _ := warden.Check(src)
+		for _, cpus := range []int{math.MinInt, 0, 1, 3, math.MaxInt} {
+			want := e
+			if e == api.OK && cpus != 1 && cpus != 3 {
+				want = api.ErrArg
+			}
+			trace, got := warden.Run(src, cpus, "000.01")
+			if got != want || got != api.OK && trace != "" || got == api.OK && trace == "" {
+				t.Errorf("P5: Run(%.80q, %d, ..) = %q, %d, want %d", src, cpus, trace, got, want)
+			}
+		}
+	}
+}
+
 func TestEveryCallEnds(t *testing.T) {
 	for _, src := range oddTexts() {
 		for _, n := range []int{math.MinInt, -1, 0, 1, 3, 4, math.MaxInt} {
 			warden.Run(src, n, src)
+			warden.Run(rich, n, src)
+			warden.Run(src, n, "000.0,0.0.011.1.102p21")
 			warden.Show(src, api.Report{Kind: n, Item: n, Place: n})
 		}
 		warden.Analyse(src)
@@ -60,9 +78,18 @@ func TestAnswersDependOnArgumentsAlone(t *testing.T) {
 		t.Fatalf("Unfold(%q) = %v, %d", rich, want, e)
 	}
 	kept := slices.Clone(want)
+	script := "00110.1.0.1.0.1.0,1,0.1.0.1."
+	trace, e := warden.Run(rich, 2, script)
+	if e != api.OK || len(trace) < 10 {
+		t.Fatalf("Run(%q, 2, %q) = %q, %d", rich, script, trace, e)
+	}
 	for _, src := range append(oddTexts(), rich) {
 		warden.Check(src)
 		warden.Unfold(src)
+		warden.Run(src, 3, script)
+		if again, e := warden.Run(rich, 2, script); e != api.OK || again != trace {
+			t.Fatalf("P2: after %.80q Run(%q, 2, %q) = %q, %d, want %q", src, rich, script, again, e, trace)
+		}
 		got, e := warden.Unfold(rich)
 		if e != api.OK || !slices.Equal(got, kept) || !slices.Equal(want, kept) {
 			t.Fatalf("P2: after %.80q Unfold(%q) = %v, %d, want %v", src, rich, got, e, kept)

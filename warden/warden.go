@@ -3,6 +3,7 @@ package warden
 
 import (
 	"warden/api"
+	"warden/machine"
 	"warden/source"
 )
 
@@ -13,7 +14,9 @@ func Check(src string) (api.Errno, int) { return source.Check(src) }
 func Unfold(src string) ([]api.Item, api.Errno) { return source.Unfold(src) }
 
 // Run plays a source on a machine, by a script (P5, P6).
-func Run(src string, cpus int, script string) (string, api.Errno) { return "", api.OK }
+func Run(src string, cpus int, script string) (string, api.Errno) {
+	return machine.Run(src, cpus, script)
+}
 
 // Analyse tells what may go wrong (P7, P8, P10).
 func Analyse(src string) ([]api.Report, api.Errno) { return nil, api.OK }

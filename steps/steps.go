@@ -56,6 +56,11 @@ func (c Code) Begin() State {
 	return State{Off: c.handler}
 }
 
+// End gives the place of the body's end, the highest there is.
+func (c Code) End() int {
+	return len(c.body)
+}
+
 // At gives the first byte of what stands at a place.
 func (c Code) At(place int) byte {
 	if place < 0 || place >= len(c.body) {

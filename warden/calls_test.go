@@ -59,6 +59,27 @@ func TestRunAnswersWithCheck(t *testing.T) {
 	}
 }
 
+func TestAnalyseAndShowAnswerWithCheck(t *testing.T) {
+	for _, src := range oddTexts() {
+		e, _ := warden.Check(src)
+		list, got := warden.Analyse(src)
+		if got != e || e != api.OK && list != nil {
+			t.Errorf("P8: Analyse(%.80q) = %v, %d; Check says %d", src, list, got, e)
+		}
+		for kind := range 9 {
+			r := api.Report{Kind: kind, Place: 2}
+			want := e
+			if e == api.OK && (kind > api.Flag || !slices.Contains(list, r)) {
+				want = api.ErrNone
+			}
+			script, got := warden.Show(src, r)
+			if got != want || (got == api.OK) != (script != "") {
+				t.Errorf("P9: Show(%.80q, %v) = %q, %d, want %d", src, r, script, got, want)
+			}
+		}
+	}
+}
+
 func TestEveryCallEnds(t *testing.T) {
 	for _, src := range oddTexts() {
 		for _, n := range []int{math.MinInt, -1, 0, 1, 3, 4, math.MaxInt} {
@@ -83,8 +104,27 @@ func TestAnswersDependOnArgumentsAlone(t *testing.T) {
 	if e != api.OK || len(trace) < 10 {
 		t.Fatalf("Run(%q, 2, %q) = %q, %d", rich, script, trace, e)
 	}
+	faulty := "t{[+a]z}A{<}h{A}"
+	list, e := warden.Analyse(faulty)
+	if e != api.OK || len(list) < 3 {
+		t.Fatalf("Analyse(%q) = %v, %d", faulty, list, e)
+	}
+	keptList := slices.Clone(list)
+	shown, _ := warden.Show(faulty, list[0])
 	for _, src := range append(oddTexts(), rich) {
 		warden.Check(src)
+		warden.Analyse(src)
+		warden.Show(src, keptList[0])
+		reports, e := warden.Analyse(faulty)
+		if e != api.OK || !slices.Equal(reports, keptList) || !slices.Equal(list, keptList) {
+			t.Fatalf("P2: after %.80q Analyse(%q) = %v, %d, want %v", src, faulty, reports, e, keptList)
+		}
+		for i := range reports {
+			reports[i] = api.Report{Kind: -1, Item: -1, Place: -1}
+		}
+		if again, e := warden.Show(faulty, keptList[0]); e != api.OK || again != shown {
+			t.Fatalf("P2: after %.80q Show(%q, %v) = %q, %d, want %q", src, faulty, keptList[0], again, e, shown)
+		}
 		warden.Unfold(src)
 		warden.Run(src, 3, script)
 		if again, e := warden.Run(rich, 2, script); e != api.OK || again != trace {

@@ -4,6 +4,7 @@ package warden
 import (
 	"warden/api"
 	"warden/machine"
+	"warden/reports"
 	"warden/source"
 )
 
@@ -19,10 +20,10 @@ func Run(src string, cpus int, script string) (string, api.Errno) {
 }
 
 // Analyse tells what may go wrong (P7, P8, P10).
-func Analyse(src string) ([]api.Report, api.Errno) { return nil, api.OK }
+func Analyse(src string) ([]api.Report, api.Errno) { return reports.Analyse(src) }
 
 // Show gives a script that shows a report (P9).
-func Show(src string, r api.Report) (string, api.Errno) { return "", api.OK }
+func Show(src string, r api.Report) (string, api.Errno) { return reports.Show(src, r) }
 
 // Edges tells which locks are held when which are taken (P10).
 func Edges(src string) ([]api.Edge, api.Errno) { return nil, api.OK }

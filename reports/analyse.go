@@ -3,35 +3,47 @@ package reports
 
 import (
 	"warden/api"
-	"warden/source"
-	"warden/states"
 	"warden/steps"
 )
 
 // none stands where a kind of report would be, and there is none.
 const none = 0
 
+// nobody stands where the number of an item would be, in the reports of what goes wrong between several.
+const nobody = -1
+
 // Analyse gives the reports of a source.
 func Analyse(src string) ([]api.Report, api.Errno) {
-	items, errno := source.Unfold(src)
+	all, errno := lookThrough(src)
 	if errno != api.OK {
 		return nil, errno
 	}
-	kinds := [][]int{}
-	for _, item := range items {
-		its := kindsOf(item)
-		kinds = append(kinds, its)
+	reports := alone(all)
+	for _, ring := range rings(all) {
+		reports = append(reports, ring)
 	}
-	return inOrder(kinds), api.OK
+	for _, race := range races(all) {
+		reports = append(reports, race)
+	}
+	return reports, api.OK
 }
 
-// kindsOf gives of each place of an item the kind of what may go wrong there, or none. One kind is enough: what stands at a place can go wrong in one way alone.
-func kindsOf(item api.Item) []int {
-	code := steps.Of(item)
-	kinds := make([]int, code.End()+1)
-	for _, one := range states.Of(code) {
-		place := one.State.Place
-		kind := kindAt(code, one.State)
+// alone gives the reports of what goes wrong with items by themselves.
+func alone(all []known) []api.Report {
+	kinds := [][]int{}
+	for _, one := range all {
+		its := one.kinds()
+		kinds = append(kinds, its)
+	}
+	return inOrder(kinds)
+}
+
+// kinds gives of each place of an item the kind of what may go wrong there, or none. One kind is enough: what stands at a place can go wrong in one way alone.
+func (k known) kinds() []int {
+	kinds := make([]int, k.code.End()+1)
+	for _, at := range k.reached {
+		place := at.State.Place
+		kind := kindAt(k.code, at.State)
 		if kind != none && place >= 0 && place < len(kinds) {
 			kinds[place] = kind
 		}

@@ -19,13 +19,12 @@ func Show(src string, r api.Report) (string, api.Errno) {
 	if r.Item < 0 || r.Item >= len(items) {
 		return "", api.ErrNone
 	}
-	code := steps.Of(items[r.Item])
-	reached := states.Of(code)
-	for i, one := range reached {
-		kind := kindAt(code, one.State)
-		if kind != none && kind == r.Kind && one.State.Place == r.Place {
-			way := wayTo(reached, i)
-			return script(r.Item, code, way), api.OK
+	one := knownOf(items[r.Item])
+	for i, at := range one.reached {
+		kind := kindAt(one.code, at.State)
+		if kind != none && kind == r.Kind && at.State.Place == r.Place {
+			way := wayTo(one.reached, i)
+			return script(r.Item, one.code, way), api.OK
 		}
 	}
 	return "", api.ErrNone

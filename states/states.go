@@ -1,13 +1,10 @@
 // Package states finds the states that a thread or a handler can come to by itself.
 package states
 
-import (
-	"warden/api"
-	"warden/steps"
-)
+import "warden/steps"
 
 // perPlace is how many states there are at one place: each lock held or not, interrupts on or off.
-const perPlace = 2 << api.Locks
+const perPlace = 2 * steps.Sets
 
 // Reached is a state that the item can come to, and the step that leads to it first.
 type Reached struct {
@@ -48,14 +45,8 @@ func mark(seen []bool, s steps.State) bool {
 
 // number gives each state another number, those of one place side by side.
 func number(s steps.State) int {
-	n := s.Place
-	for lock := 0; lock < api.Locks; lock++ {
-		n *= 2
-		if s.Held.Has(lock) {
-			n++
-		}
-	}
-	n *= 2
+	held := s.Held.Number()
+	n := s.Place*perPlace + 2*held
 	if s.Off {
 		n++
 	}

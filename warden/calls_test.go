@@ -59,12 +59,15 @@ func TestRunAnswersWithCheck(t *testing.T) {
 	}
 }
 
-func TestAnalyseAndShowAnswerWithCheck(t *testing.T) {
+func TestAnalyseShowAndEdgesAnswerWithCheck(t *testing.T) {
 	for _, src := range oddTexts() {
 		e, _ := warden.Check(src)
 		list, got := warden.Analyse(src)
 		if got != e || e != api.OK && list != nil {
 			t.Errorf("P8: Analyse(%.80q) = %v, %d; Check says %d", src, list, got, e)
+		}
+		if edges, got := warden.Edges(src); got != e || e != api.OK && edges != nil {
+			t.Errorf("P10: Edges(%.80q) = %v, %d; Check says %d", src, edges, got, e)
 		}
 		for kind := range 9 {
 			r := api.Report{Kind: kind, Place: 2}
@@ -104,12 +107,17 @@ func TestAnswersDependOnArgumentsAlone(t *testing.T) {
 	if e != api.OK || len(trace) < 10 {
 		t.Fatalf("Run(%q, 2, %q) = %q, %d", rich, script, trace, e)
 	}
-	faulty := "t{[+a]z}A{<}h{A}"
+	faulty := "t{[+a]z}A{<}h{(A|+a)w0}"
 	list, e := warden.Analyse(faulty)
-	if e != api.OK || len(list) < 3 {
+	if e != api.OK || len(list) < 5 {
 		t.Fatalf("Analyse(%q) = %v, %d", faulty, list, e)
 	}
 	keptList := slices.Clone(list)
+	lines, e := warden.Edges(faulty)
+	if e != api.OK || len(lines) < 1 {
+		t.Fatalf("Edges(%q) = %v, %d", faulty, lines, e)
+	}
+	keptLines := slices.Clone(lines)
 	shown, _ := warden.Show(faulty, list[0])
 	for _, src := range append(oddTexts(), rich) {
 		warden.Check(src)
@@ -121,6 +129,14 @@ func TestAnswersDependOnArgumentsAlone(t *testing.T) {
 		}
 		for i := range reports {
 			reports[i] = api.Report{Kind: -1, Item: -1, Place: -1}
+		}
+		warden.Edges(src)
+		edges, e := warden.Edges(faulty)
+		if e != api.OK || !slices.Equal(edges, keptLines) || !slices.Equal(lines, keptLines) {
+			t.Fatalf("P2: after %.80q Edges(%q) = %v, %d, want %v", src, faulty, edges, e, keptLines)
+		}
+		for i := range edges {
+			edges[i] = api.Edge{From: -1, To: -1}
 		}
 		if again, e := warden.Show(faulty, keptList[0]); e != api.OK || again != shown {
 			t.Fatalf("P2: after %.80q Show(%q, %v) = %q, %d, want %q", src, faulty, keptList[0], again, e, shown)

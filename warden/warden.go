@@ -26,4 +26,4 @@ func Analyse(src string) ([]api.Report, api.Errno) { return reports.Analyse(src)
 func Show(src string, r api.Report) (string, api.Errno) { return reports.Show(src, r) }
 
 // Edges tells which locks are held when which are taken (P10).
-func Edges(src string) ([]api.Edge, api.Errno) { return nil, api.OK }
+func Edges(src string) ([]api.Edge, api.Errno) { return reports.Edges(src) }
